@@ -386,18 +386,14 @@ func TestInOrder(t *testing.T) {
 	}
 }
 
-func TestAnswersShareNothing(t *testing.T) {
-	c := at(2, false, 0, 2, slices.Clone(queues[2]), nil)
-	before := look(c)
-	for range 2 {
-		d, _ := chans.Leave(c, 7)
-		e, _, _, _ := chans.Close(c)
-		f, _, _ := chans.Send(c, api.Wait{G: 7})
-		for _, x := range []api.Chan{d, e, f} {
-			x.Buf.Slots[0], x.Sends[0].G = 77, 77
+func TestArgumentsStayAsTheyAre(t *testing.T) {
+	for _, c := range every() {
+		before := look(c)
+		chans.Leave(c, 1)
+		chans.Close(c)
+		chans.Ready(c, true, 1)
+		if !same(look(c), before) {
+			t.Fatal(c, before)
 		}
-	}
-	if !same(look(c), before) {
-		t.Error(c)
 	}
 }

@@ -175,7 +175,7 @@ func TestWrongArguments(t *testing.T) {
 	for i, x := range []struct {
 		caps []int
 		l    []api.Event
-	}{{[]int{4}, example}, {[]int{0, 0, 0, 0, 0}, nil}, {[]int{-2}, nil}, {nil, example}, {[]int{0}, wrong}} {
+	}{{[]int{4}, example}, {[]int{0, 0, 0, 0, 0}, nil}, {[]int{-2}, nil}, {nil, example}, {[]int{0}, wrong}, {nil, make([]api.Event, 1)}} {
 		if all, why := edges.All(x.caps, x.l); len(all) > 0 || why != api.ErrArg {
 			t.Error(i, all, why)
 		}

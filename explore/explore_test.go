@@ -127,6 +127,9 @@ func TestExample(t *testing.T) {
 	if s, why := explore.Sweep(p, 9, 300); s != want || why != api.OK {
 		t.Error(s, why)
 	}
+	if s, why := explore.Sweep(p, 400, 300); s != want || why != api.OK {
+		t.Error("much fuel", s, why)
+	}
 	if s, why := explore.Sweep(p, 9, 2); s != want || why != api.OK {
 		t.Error("just all", s, why)
 	}
@@ -200,6 +203,19 @@ func TestTooMany(t *testing.T) {
 		t.Error(l, why)
 	}
 	if s, _ := explore.Sweep(p, 3, 300); s.Racy == 0 || s.Ends[api.SFuel] != s.Runs {
+		t.Error(s)
+	}
+}
+
+// TestTheFirstStep: it may be chosen, too, by a select.
+func TestTheFirstStep(t *testing.T) {
+	p := api.Prog{Caps: []int{1, 1, 0}, Selects: []api.Select{{Cases: []api.Case{{Send: true}, {Chan: 2}, {Send: true, Chan: 1}}}}}
+	p = samples.Of(p, "select 0; select 0")
+	if s := check(t, p, 5, 300); s.Runs != 2 || !s.Whole {
+		t.Error(s)
+	}
+	p.Caps = []int{2, 2, 0}
+	if s := check(t, p, 5, 300); s.Runs != 4 || !s.Whole {
 		t.Error(s)
 	}
 }

@@ -153,12 +153,12 @@ func TestOneAtATime(t *testing.T) {
 	}
 }
 
-func TestAnswersShareNothing(t *testing.T) {
-	l := api.Lock{Held: true, Queue: slices.Grow(queue(3), 4)}
-	m, _, _ := locks.Take(l, api.Wait{G: 9})
-	n, _, _, _ := locks.Give(l)
-	m.Queue[0].G, n.Queue[0].G = 70, 70
-	if !slices.Equal(l.Queue, queue(3)) || m.Queue[3].G != 9 {
-		t.Error(l, m)
+func TestArgumentsStayAsTheyAre(t *testing.T) {
+	l := api.Lock{Held: true, Queue: queue(3)}
+	locks.Take(l, api.Wait{G: 9})
+	locks.Give(l)
+	locks.Waiting(l)
+	if !same(l, api.Lock{Held: true, Queue: queue(3)}) {
+		t.Error(l)
 	}
 }

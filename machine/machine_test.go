@@ -131,6 +131,8 @@ func TestChannels(t *testing.T) {
 			"0:begin0 0:send0 0:sent0#0@1 0:close0 0:recv0 0:got0#0@4 0:recv0 0:none0@6", api.SDone},
 		{"closed, and got again", caps(1, 1), []string{"close 0; send 1; recv 0; else 5; nop; recv 1; else 8; read 0"}, by(0, 0, 0, 0, 0, 0, 0),
 			"0:begin0 0:close0 0:send1 0:sent1#0@2 0:recv0 0:none0@4 0:recv1 0:got1#0@6 0:read0", api.SDone},
+		{"none, and sent meanwhile", caps(1, 1), []string{"close 0; recv 0; send 1; else 5; read 0; recv 1"}, by(0, 0, 0, 0, 0),
+			"0:begin0 0:close0 0:recv0 0:none0@2 0:send1 0:sent1#0@4 0:recv1 0:got1#0@6", api.SDone},
 		{"close twice", caps(0), []string{"close 0; close 0"}, by(0, 0), "0:begin0 0:close0", api.SPanic},
 		{"close nil", caps(-1), []string{"close 0"}, by(0), "0:begin0", api.SPanic},
 		{"close where somebody sends", caps(0), []string{"go 1; close 0", "send 0"}, by(0, 1, 0), "0:begin0 0:go1 1:begin0@1 1:send0", api.SPanic},
@@ -368,27 +370,55 @@ func TestOtherWorlds(t *testing.T) {
 	}
 }
 
-// TestEndsAtTheLastNumber: a channel has had as many values as it may.
-func TestEndsAtTheLastNumber(t *testing.T) {
-	w, _ := play(t, samples.Of(caps(1), "send 0"))
-	w.Chans[0].Sent, w.Chans[0].Got = api.MaxSent, api.MaxSent
-	if n, l, why := machine.Step(w, api.Choice{Case: -1}); !reflect.DeepEqual(n, api.World{}) || len(l) > 0 || why != api.ErrNone {
-		t.Error(n, l, why)
+// copied is a world in lists of its own.
+func copied(w api.World) api.World {
+	w.Prog.Caps, w.Prog.Selects, w.Prog.Blocks = slices.Clone(w.Prog.Caps), slices.Clone(w.Prog.Selects), slices.Clone(w.Prog.Blocks)
+	for i := range w.Prog.Selects {
+		w.Prog.Selects[i].Cases = slices.Clone(w.Prog.Selects[i].Cases)
 	}
+	for i := range w.Prog.Blocks {
+		w.Prog.Blocks[i] = slices.Clone(w.Prog.Blocks[i])
+	}
+	w.Gors, w.Chans, w.Locks, w.Onces = slices.Clone(w.Gors), slices.Clone(w.Chans), slices.Clone(w.Locks), slices.Clone(w.Onces)
+	for i := range w.Chans {
+		c := &w.Chans[i]
+		c.Buf.Slots, c.Sends, c.Recvs = slices.Clone(c.Buf.Slots), slices.Clone(c.Sends), slices.Clone(c.Recvs)
+	}
+	for i := range w.Locks {
+		w.Locks[i].Queue = slices.Clone(w.Locks[i].Queue)
+	}
+	for i := range w.Onces {
+		w.Onces[i].Queue = slices.Clone(w.Onces[i].Queue)
+	}
+	return w
 }
 
-func TestAnswersShareNothing(t *testing.T) {
-	p := selecting(caps(0, 1), false, from(0), from(1))
-	p = samples.Of(p, "go 1; select 1", "lock 0; lock 0; send 0")
-	w, _ := play(t, p, by(0, 0, 1, 1)...)
-	again, _ := play(t, p, by(0, 0, 1, 1)...)
-	first, _, _ := machine.New(p)
-	first.Prog.Blocks[0][0].A, first.Prog.Caps[0], first.Prog.Selects[1].Cases[0].Chan = 55, 55, 55
-	w2, _ := play(t, p, by(0, 0, 1)...)
-	next, _, _ := machine.Step(w2, api.Choice{G: 1, Case: -1})
-	next.Gors[0].Pc, next.Chans[0].Recvs[0].G, next.Prog.Blocks[0][0].A, next.Prog.Caps[0] = 44, 44, 44, 44
-	w3, _ := play(t, p, by(0, 0, 1)...)
-	if !reflect.DeepEqual(w, again) || !reflect.DeepEqual(w2, w3) {
-		t.Error("changed")
+// TestArgumentsStayAsTheyAre is R1 and R4: a world can be gone on from again, whatever was made of it.
+func TestArgumentsStayAsTheyAre(t *testing.T) {
+	for n := range 100 {
+		w, _, _ := machine.New(samples.Made(n))
+		for _, pick := range samples.Picks(n, 60) {
+			l := machine.Choices(w)
+			if len(l) == 0 {
+				break
+			}
+			before := copied(w)
+			var next api.World
+			for i, c := range l {
+				x, news, _ := machine.Step(w, c)
+				kept, told := copied(x), slices.Clone(news)
+				again, olds, _ := machine.Step(w, c)
+				if !reflect.DeepEqual(kept, copied(again)) || !slices.Equal(told, olds) || !reflect.DeepEqual(copied(x), kept) {
+					t.Fatal("not the same again", n, c)
+				}
+				if i == (pick%len(l)+len(l))%len(l) {
+					next = x
+				}
+			}
+			if !reflect.DeepEqual(before, w) {
+				t.Fatal("changed", n)
+			}
+			w = next
+		}
 	}
 }

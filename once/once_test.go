@@ -73,6 +73,9 @@ func TestWrongArguments(t *testing.T) {
 }
 
 func TestDo(t *testing.T) {
+	if p, n, why := once.Do(api.Once{State: api.ODoes, By: 9}, api.Wait{}); !same(p, api.Once{State: api.ODoes, By: 9, Queue: make([]api.Wait, 1)}) || n != 1 || why != api.OK {
+		t.Error(p, n, why)
+	}
 	w := api.Wait{G: 20, Case: 2, Start: 6}
 	for _, x := range []struct {
 		o, want api.Once
@@ -133,12 +136,11 @@ func TestExample(t *testing.T) {
 	}
 }
 
-func TestAnswersShareNothing(t *testing.T) {
-	o := api.Once{State: api.ODoes, By: 9, Queue: slices.Grow(queue(3), 4)}
-	p, _, _ := once.Do(o, api.Wait{G: 20})
-	_, l, _ := once.End(o, 9)
-	p.Queue[0].G, l[0].G = 70, 70
-	if !slices.Equal(o.Queue, queue(3)) || p.Queue[3].G != 20 {
-		t.Error(o, p)
+func TestArgumentsStayAsTheyAre(t *testing.T) {
+	o := api.Once{State: api.ODoes, By: 9, Queue: queue(3)}
+	once.Do(o, api.Wait{G: 20})
+	once.End(o, 9)
+	if !same(o, api.Once{State: api.ODoes, By: 9, Queue: queue(3)}) {
+		t.Error(o)
 	}
 }

@@ -147,7 +147,7 @@ func TestWrongArguments(t *testing.T) {
 	for _, x := range []struct {
 		caps []int
 		l    []api.Event
-	}{{[]int{4}, good}, {[]int{-2}, nil}, {make([]int, 5), nil}, {nil, wrong}} {
+	}{{[]int{4}, good}, {[]int{-2}, nil}, {make([]int, 5), nil}, {nil, wrong}, {nil, make([]api.Event, 1)}} {
 		for _, i := range []int{-1, 0, 9} {
 			refused(x.caps, x.l, i, 0, api.ErrArg)
 			refused(x.caps, x.l, 0, i, api.ErrArg)

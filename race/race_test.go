@@ -216,7 +216,7 @@ func TestWrongArguments(t *testing.T) {
 	for i, x := range []struct {
 		caps []int
 		l    []api.Event
-	}{{[]int{4}, good}, {[]int{-2}, nil}, {make([]int, 5), nil}, {nil, wrong}} {
+	}{{[]int{4}, good}, {[]int{-2}, nil}, {make([]int, 5), nil}, {nil, wrong}, {nil, make([]api.Event, 1)}} {
 		if f, why := race.Find(x.caps, x.l); f != (api.Race{}) || why != api.ErrArg {
 			t.Error(i, f, why)
 		}

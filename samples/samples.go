@@ -12,8 +12,9 @@ type Sample struct {
 	Prog api.Prog
 }
 
-// Of is a program with blocks of these texts; one that is not right, if one of these is no block's.
+// Of is a program with just the blocks of these texts; one that is not right, if one of these is no block's.
 func Of(head api.Prog, blocks ...string) api.Prog {
+	head.Blocks = nil
 	for _, b := range blocks {
 		block, _, why := text.Parse(b)
 		if why != api.OK {
@@ -44,7 +45,7 @@ func All() []Sample {
 		{"received with room", Of(chan1, "go 1; send 0; write 0", "write 0; recv 0")},
 		{"closed", Of(chan0, "go 1; go 1; write 0; close 0", "recv 0; read 0")},
 		{"locked", Of(locked, "go 1; go 1; lock 0; write 0; unlock 0", "lock 0; read 0; write 0; unlock 0")},
-		{"once", Of(once, "go 1; go 1; once 0 4; jump 5; read 0; jump 8; write 0; end 0", "once 0 3; write 0; end 0; read 0")},
+		{"once", Of(once, "go 1; go 1; once 0 5; write 0; end 0; read 0", "once 0 3; write 0; end 0; read 0")},
 		{"default", Of(try, "go 1; write 0; send 0", "select 0; write 0")},
 		{"closed twice", Of(chan0, "go 1; close 0", "close 0")},
 		{"stuck", Of(chan0, "go 1; recv 0", "recv 0")},

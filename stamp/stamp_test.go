@@ -133,7 +133,7 @@ func TestWrongArguments(t *testing.T) {
 	for i, x := range []struct {
 		caps []int
 		l    []api.Event
-	}{{[]int{4}, good}, {[]int{-2}, nil}, {make([]int, 5), nil}, {nil, wrong}} {
+	}{{[]int{4}, good}, {[]int{-2}, nil}, {make([]int, 5), nil}, {nil, wrong}, {nil, make([]api.Event, 1)}} {
 		if all, why := stamp.All(x.caps, x.l); len(all) > 0 || why != api.ErrArg {
 			t.Error(i, all, why)
 		}

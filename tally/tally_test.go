@@ -172,7 +172,7 @@ func TestWrongArguments(t *testing.T) {
 		caps []int
 		l    []api.Event
 		why  api.Errno
-	}{{[]int{4}, good, api.ErrArg}, {[]int{-2}, nil, api.ErrArg}, {make([]int, 5), nil, api.ErrArg}, {nil, wrong, api.ErrArg}, {nil, nil, api.OK}, {[]int{0}, good, api.OK}} {
+	}{{[]int{4}, good, api.ErrArg}, {[]int{-2}, nil, api.ErrArg}, {make([]int, 5), nil, api.ErrArg}, {nil, wrong, api.ErrArg}, {nil, make([]api.Event, 1), api.ErrArg}, {nil, nil, api.OK}, {[]int{0}, good, api.OK}} {
 		if l, why := tally.Pairs(x.caps, x.l); len(l) > 0 || why != x.why {
 			t.Error(i, l, why)
 		}

@@ -201,12 +201,12 @@ func TestTickIsAbove(t *testing.T) {
 
 func TestArgumentsStayAsTheyAre(t *testing.T) {
 	a, b := []int{1, 0, 3, 0}, []int{0, 2, 0}
-	c, _ := vclock.Join(a, b)
-	d, _ := vclock.Trim(a)
-	e, _ := vclock.Tick(b, 1)
-	for _, l := range [][]int{c, d, e} {
-		for i := range l[:cap(l)] {
-			l[:cap(l)][i] = 9
+	for _, pair := range [][2][]int{{a, b}, {b, a}} {
+		vclock.Join(pair[0], pair[1])
+		vclock.Leq(pair[0], pair[1])
+		vclock.Trim(pair[0])
+		for g := range 16 {
+			vclock.Tick(pair[0], g)
 		}
 	}
 	if !slices.Equal(a, []int{1, 0, 3, 0}) || !slices.Equal(b, []int{0, 2, 0}) {

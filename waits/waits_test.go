@@ -147,12 +147,14 @@ func TestDropped(t *testing.T) {
 	}
 }
 
-func TestAnswersShareNothing(t *testing.T) {
-	l := slices.Grow([]api.Wait{{G: 2}, {G: 1}}, 5)
-	r, _ := waits.Push(l, api.Wait{G: 3})
-	d, _ := waits.Drop(l, 5)
-	r[0].G, d[0].G = 8, 9
-	if !slices.Equal(l, []api.Wait{{G: 2}, {G: 1}}) || l[:3][2].G != 0 || r[0].G != 8 {
-		t.Error(l, r, d)
+func TestArgumentsStayAsTheyAre(t *testing.T) {
+	l := []api.Wait{{G: 2}, {G: 1}, {G: 2, Case: 1}, {G: 3}}
+	before := slices.Clone(l)
+	waits.Push(l, api.Wait{G: 3, Case: 3})
+	waits.Drop(l, 2)
+	waits.First(l, 2)
+	waits.Who(l)
+	if !slices.Equal(l, before) {
+		t.Error(l)
 	}
 }

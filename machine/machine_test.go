@@ -219,6 +219,21 @@ func TestWhoLeaves(t *testing.T) {
 	}
 }
 
+// TestWhoWaits: by what wait one is where it waits, which Choices and Step do not tell.
+func TestWhoWaits(t *testing.T) {
+	p := samples.Of(caps(0, 0), "go 1; go 2; go 3; lock 1; once 1 6; nop", "send 0", "recv 1", "lock 1")
+	w, _ := play(t, p, by(0, 0, 0, 0, 0, 1, 2, 3)...)
+	at := func(g, start int) []api.Wait { return []api.Wait{{G: g, Start: start}} }
+	if !slices.Equal(w.Chans[0].Sends, at(1, 10)) || !slices.Equal(w.Chans[1].Recvs, at(2, 11)) || !slices.Equal(w.Locks[1].Queue, at(3, 12)) {
+		t.Error(w.Chans, w.Locks)
+	}
+	p = samples.Of(caps(), "go 1; once 1 3; end 1", "once 1 1")
+	w, _ = play(t, p, by(0, 0, 1)...)
+	if o := w.Onces[1]; o.State != api.ODoes || o.By != 0 || !slices.Equal(o.Queue, at(1, 4)) {
+		t.Error(w.Onces)
+	}
+}
+
 func TestNewWrong(t *testing.T) {
 	for _, p := range []api.Prog{{}, {Vars: 5, Blocks: make([][]api.Instr, 1)}, {Blocks: [][]api.Instr{{{Op: 14}}}}} {
 		if w, l, why := machine.New(p); !reflect.DeepEqual(w, api.World{}) || len(l) > 0 || why != api.ErrArg {
